@@ -1,0 +1,1 @@
+"""Meanbits: numbers told by rows of ones and noughts whose mean they are."""

@@ -41,5 +41,5 @@ class BadSheet(BitsError):
     """A sheet of which the row of that number is not written as it must be."""
 
     def __init__(self, row):
-        BitsError.__init__(self, f"row {row} of the sheet is not written as it must be")
+        super().__init__(f"row {row} of the sheet is not written as it must be")
         self.row = row

@@ -13,7 +13,7 @@ TREES = {path.stem: ast.parse(path.read_text()) for path in FILES}
 BUILTINS = set("""len range enumerate zip min max sum abs sorted reversed int str bool bytes list tuple dict set
     frozenset isinstance ord repr any all divmod Exception ValueError TypeError KeyError IndexError LookupError
     ZeroDivisionError ArithmeticError OverflowError RuntimeError NotImplementedError AttributeError StopIteration
-    NotImplemented""".split())
+    NotImplemented super""".split())
 METHODS = set("""append clear copy count endswith extend find get index insert isalnum isalpha isdigit islower isspace
     isupper items join keys ljust lower lstrip partition pop remove replace reverse rfind rjust rpartition rsplit
     rstrip setdefault split splitlines startswith strip update upper values zfill bit_length title capitalize swapcase
@@ -23,7 +23,7 @@ BARRED_WORDS = set("""type typing typing_extensions enum Enum IntEnum StrEnum Fl
     namedtuple NamedTuple TypedDict TYPE_CHECKING abstractmethod""".split())
 BARRED_NAMES = set("""register mro elements open input version_info with_traceback add_note attrgetter breakpoint
     builtins compile copyright credits delattr dir eval exec exit gc getattr globals hasattr help id importlib license
-    locals methodcaller os quit setattr super type vars sys""".split())
+    locals methodcaller os quit setattr type vars sys""".split())
 SPECIAL_METHODS = {"__init__", "__eq__", "__repr__", "__str__", "__len__"}
 FUNCTIONS = (ast.FunctionDef, ast.Lambda)
 

@@ -1,6 +1,6 @@
 """Two errors in one row: the rows, and the bound that they keep or the tops that break it."""
 
-from meanbits.checks import is_number
+from meanbits.checks import are_numbers, is_number
 
 FIRST = (0, 0)
 
@@ -66,14 +66,9 @@ def closed(below, low, high, limit):
     return ("closed", sorted(came))
 
 
-def is_state(thing):
-    """Whether it is a pair of numbers."""
-    return isinstance(thing, tuple) and len(thing) == 2 and is_number(thing[0]) and is_number(thing[1])
-
-
 def are_closed(below, low, high, limit, states):
     """Whether they are unlike states within the limit, the first one among them, that no top leads out of."""
-    if not all(is_state(state) and is_within(state, limit) for state in states):
+    if not all(are_numbers(state, 2) and is_within(state, limit) for state in states):
         return False
     known = set(states)
     if len(known) < len(states) or FIRST not in known:

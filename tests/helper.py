@@ -2,6 +2,7 @@
 
 import copy
 import itertools
+import math
 from fractions import Fraction
 
 
@@ -23,6 +24,11 @@ def numbers(seed, many, most):
 def mixed_row(seed, many):
     """A row of so many bits that look mixed."""
     return "".join(str(bit) for bit in numbers(seed, many, 1))
+
+
+def all_shares(most):
+    """Every share of a below to most."""
+    return [(top, below) for below in range(1, most + 1) for top in range(below + 1) if math.gcd(top, below) == 1]
 
 
 def by_fraction(part):

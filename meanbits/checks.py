@@ -1,6 +1,6 @@
 """The tests of arguments that several modules share."""
 
-from meanbits.errors import NoStart, UnlikeRows
+from meanbits.errors import NoStart, TooShort, UnlikeRows
 
 
 def is_number(thing):
@@ -22,6 +22,12 @@ def need_start(below, start):
     """Refuse a first error that no carrying by below can have."""
     if not 0 <= start < below:
         raise NoStart("the start is not from 0 to below less one")
+
+
+def need_bits(row, many):
+    """Refuse a row of fewer bits."""
+    if len(row) < many:
+        raise TooShort("the row has too few bits")
 
 
 def need_one_length(rows):

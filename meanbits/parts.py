@@ -44,6 +44,24 @@ def is_less(one, other):
     return one[0] * other[1] < other[0] * one[1]
 
 
+def greatest(parts):
+    """The greatest of a list of parts, not empty."""
+    found = parts[0]
+    for part in parts:
+        if is_less(found, part):
+            found = part
+    return found
+
+
+def least(parts):
+    """The least of a list of parts, not empty."""
+    found = parts[0]
+    for part in parts:
+        if is_less(part, found):
+            found = part
+    return found
+
+
 def figures(number):
     """The figures of a number from 0."""
     # str() alone refuses numbers of some thousand figures, which sums of many parts can have.

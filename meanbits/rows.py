@@ -1,6 +1,7 @@
 """Rows: texts of the signs 0 and 1."""
 
-from meanbits.errors import NoPlace, TooShort
+from meanbits.checks import need_bits
+from meanbits.errors import NoPlace
 from meanbits.parts import part_of
 
 OTHER_BIT = {"0": "1", "1": "0"}
@@ -38,8 +39,7 @@ def turned(row, places):
 
 def mean_of(row):
     """The ones by the bits, a part."""
-    if row == "":
-        raise TooShort("an empty row has no mean")
+    need_bits(row, 1)
     return part_of(ones(row), len(row))
 
 

@@ -70,8 +70,7 @@ def shows_uneven(row, thing):
 
 def common_span(rows):
     """The pair (low, high) between which lies each share that makes all the rows, None where none does."""
-    for row in rows:
-        need_bits(row, 1)
+    # All are asked for theirs, so that an empty row is refused though another one has none.
     spans = [span_of(row) for row in rows]
     if None in spans:
         return None

@@ -29,10 +29,10 @@ def offs(row, wave):
 
 def first_greatest(sums):
     """A pair: the most that a later sum is above an earlier one, and the first stretch between such."""
-    most, stretch = sums[-1] - sums[-2], (len(sums) - 2, len(sums) - 1)
     highest = len(sums) - 1
+    most, stretch = sums[highest] - sums[highest - 1], (highest - 1, highest)
     # From the end on, so that the first of the highest sums further on is known at each place.
-    for one in range(len(sums) - 2, -1, -1):
+    for one in range(len(sums) - 3, -1, -1):
         if sums[one + 1] >= sums[highest]:
             highest = one + 1
         if sums[highest] - sums[one] >= most:

@@ -30,8 +30,12 @@ def span_of(row):
     highs = []
     for many in range(1, len(row) + 1):
         counts = ones_of_stretches(sums, many)
-        lows.append(part_of(max(counts) - 1, many))
-        highs.append(part_of(min(counts) + 1, many))
+        fewest, most = min(counts), max(counts)
+        # Nothing lies between these already; most rows without a span end here, at few bits.
+        if most - fewest > 1:
+            return None
+        lows.append(part_of(most - 1, many))
+        highs.append(part_of(fewest + 1, many))
     return between(lows, highs)
 
 

@@ -202,7 +202,8 @@ class IsPressed(unittest.TestCase):
         self.assertGreater(found, 100)
 
     def test_altered_at_one_place(self):
-        for row in ["", "0", "1", "01", "011", "101", "0110", "0011", "0100101", "00100100", "1101101011011"] + LONG[::9]:
+        for row in ["", "0", "1", "01", "011", "101", "0110", "0011", "0100101", "00100100",
+                    "1101101011011"] + LONG[::9]:
             told = pressed(row)
             self.assert_pressed(told, True)
             for other in altered(told):
@@ -213,7 +214,8 @@ class IsPressed(unittest.TestCase):
         self.assertGreater(len(steps), 2)
         for place, step in enumerate(steps):
             for part, number in enumerate(step):
-                for other in (number + 1, number - 1, -number - 1, 10 ** 9, 10 ** 100, -10 ** 100, True, False, str(number),
+                for other in (number + 1, number - 1, -number - 1, 10 ** 9, 10 ** 100, -10 ** 100, True, False,
+                              str(number),
                               None, [number], (number,), ""):
                     changed = step[:part] + (other,) + step[part + 1:]
                     thing = (steps[:place] + [changed] + steps[place + 1:], core)
@@ -235,7 +237,8 @@ class IsPressed(unittest.TestCase):
     def test_cores_otherwise(self):
         for row in LONG[::3] + ["0110", "0011", "01"]:
             steps, core = pressed(row)
-            for other in (core + "0", core + "1", core[1:], core[:-1], flipped(core), "0" + core, core + "2", core + " ",
+            for other in (core + "0", core + "1", core[1:], core[:-1], flipped(core), "0" + core, core + "2",
+                          core + " ",
                           core + "\n", core.replace("0", "x"), list(core), tuple(core), None, 0, True, [core], (core,)):
                 self.assert_pressed((steps, other), plainly_pressed((steps, other)))
 

@@ -12,17 +12,17 @@ def has_span(row):
 
 def longest(row):
     """How many first bits of a row that is not empty have a span together, at most."""
-    some, many = 1, len(row)
-    # What is part of a stretch with a span has one, so the lengths with a span are those to the greatest.
-    while 2 * some <= many and has_span(row[:2 * some]):
-        some *= 2
-    beyond = min(2 * some, many + 1)
-    while beyond - some > 1:
-        middle = (some + beyond) // 2
+    many = len(row)
+    some, longer = 1, min(2, many)
+    # What is part of a stretch with a span has one, too, so no length behind the first one without has a span.
+    while some < many and has_span(row[:longer]):
+        some, longer = longer, min(2 * longer, many)
+    while longer - some > 1:
+        middle = (some + longer) // 2
         if has_span(row[:middle]):
             some = middle
         else:
-            beyond = middle
+            longer = middle
     return some
 
 

@@ -37,7 +37,7 @@ def read(row):
 
 
 def drawn(one, other, part, most):
-    """The share one, drawn towards the other as near to the part between as its below may be to most."""
+    """The share one, drawn towards the other until the part between would be passed or its below be beyond most."""
     top, below = part
     apart = abs(top * one[1] - one[0] * below)
     step = abs(top * other[1] - other[0] * below)

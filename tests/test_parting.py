@@ -78,7 +78,7 @@ class Pieces(unittest.TestCase):
 
     def test_steady_rows_are_one_piece(self):
         for share, start in [((0, 1), 0), ((1, 1), 0), ((1, 2), 1), ((70, 199), 5), ((1, 200), 0), ((199, 200), 199)]:
-            for many in (1, 2, 3, 4, 5, 7, 8, 9, 127, 128, 129, 399, 400):
+            for many in (1, 2, 3, 4, 5, 7, 8, 9, 127, 128, 129, 399, 400, 1000):
                 self.assertEqual(pieces(steady(share, start, many)), [(0, many)])
 
     def test_long_rows(self):

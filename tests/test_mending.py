@@ -94,14 +94,13 @@ class Mended(unittest.TestCase):
 
     def test_no_two_made_rows_are_two_turns_apart(self):
         # So a row with one bit turned has one place and one share, and is not made itself.
-        for most in range(1, 6):
-            many = max(3, 6 * most - 4)
-            making = made_rows(most, many)
-            seen = {}
-            for row in making:
-                for near in [row] + [turn(row, place) for place in range(many)]:
-                    self.assertNotIn(near, seen)
-                    seen[near] = row
+        for most in range(1, 9):
+            for many in (max(3, 6 * most - 4), 6 * most):
+                seen = set()
+                for row in made_rows(most, many):
+                    for near in [row] + [turn(row, place) for place in range(many)]:
+                        self.assertNotIn(near, seen)
+                        seen.add(near)
 
     def test_shares_beyond_most(self):
         row = steady((3, 8), 0, 80)
